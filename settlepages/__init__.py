@@ -1,0 +1,1 @@
+"""Settlepages: texts that change how they are read, and pages that come to rest."""

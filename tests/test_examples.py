@@ -1,0 +1,94 @@
+"""The examples of the document's interface, to the sign."""
+
+import doctest
+import importlib
+import unittest
+
+MODULES = (
+    "errors", "kinds", "cutting", "runs", "tokenrows", "leasttexts", "tableparts", "nearesttables", "moments",
+    "aheads", "linecuts", "pairshapes", "alikeshapes",
+)
+
+EXAMPLES = r'''
+>>> T = (("a", 6), ("~", 1))
+>>> [is_text("a"), is_text("a\n"), is_table(T), is_table((("a", 5),)), kind_by(T, "a"), kind_by((), "\n")]
+[False, True, True, False, 6, 9]
+
+>>> [cut_once((), "!ab c\n", 0, "new"), cut_once((), "!+ \n", 0, "new"), cut_once((), "  \n", 1, "skip"), cut_once((("a", 9),), "abc\n", 0, "within")]
+[(('name', 'ab'), 3, 'skip'), (('name', '+'), 2, 'within'), (None, 2, 'skip'), ((4, ' '), 4, 'new')]
+>>> cuts_of((), " a! b;c\n\n(\n")
+[((5, 'a'), 1, 2), (('name', ' '), 2, 4), ((5, 'b'), 4, 5), (('name', 'par'), 8, 9), ((1, '('), 9, 10), ((4, ' '), 10, 11)]
+
+>>> S = ("space", 0, 0, 0, 0, 0)
+>>> A, B, C = "ab !kern 5 c\n", "!rule!f$1($1!kern!num0 )(!num0=7 !f(xy))!f z\n", "!kind!q=1q!free b!else c!endtest)\n"
+>>> run_of(A, (), 99) == (("done", (("sign", "a"), ("sign", "b"), S, ("kern", 5), ("sign", "c"), S)), 6)
+True
+>>> run_of(B, (), 99) == (("done", (("sign", "x"), ("sign", "y"), ("kern", 7), S, ("sign", "z"), ("kern", 0), S, S)), 14)
+True
+>>> [run_of(C, (True,), 99) == (("done", (("sign", "b"), S)), 7), run_of(C, (), 99)[0][1][0], run_of(A, (), 3), run_of("a)\n", (), 9)]
+[True, ('sign', 'c'), (('more',), 3), (('error', 'extra', 2, ((('sign', 'a'),),)), 2)]
+>>> events_of("(!num1=5 )\n", (), 99) == [(1, 1, ("do", (1, "("))), (1, 1, ("level", "brace")), (2, 5, ("do", ("name", "num"))), (2, 9, ("set", ("num", "1"), 5, False)), (3, 10, ("do", (2, ")"))), (3, 10, ("left", "brace")), (3, 10, ("back", ("num", "1"))), (4, 11, ("do", (4, " "))), (4, 11, ("come", S))]
+True
+>>> brought_of(B, (), 99)
+[-1, -1, -1, -1, 3, 3, 3, 3, -1, -1, 9, 9, 9, -1]
+>>> [state_of("(!num1=5;\n", (), 99), run_cut(A, A, (), 99) == run_of(A + A, (), 99), parting_lines(A, (), 99), parting_lines("!num1=5;\n", (), 99) is None]
+[((('text', (), ()), ('brace', ((('num', '1'), 5),), ())), ((),), (), (), 10, True), True, None, False]
+
+>>> [row_told((), " a! b;c\n\n(\n"), is_token_row(((5, "1"),)), is_token_row((("name", "a1"),))]
+[((5, 'a'), ('name', ' '), (5, 'b'), ('name', 'par'), (1, '('), (4, ' ')), False, False]
+>>> [refused_at(((";", 6),), ((5, "a"),)), refused_at((), ((5, "a"), (4, " "), (4, " "))), refused_at((("!", 6),), (("name", "a"),)), refused_at((), ((6, "a"),)), refused_at((), ((5, "a"),))]
+[(1, 'end'), (2, 'space'), (0, 'name'), (0, 'kind'), None]
+
+>>> [least_text((), row_told((), " a! b;c\n\n(\n")), least_text((), ((5, "a"),)), least_text(((";", 6),), ((5, "a"),)), plain_text((), "  !ab   c \n \n")]
+['a! b;\n\n(\n', 'a;\n', None, '!ab\nc\n\n']
+>>> [count_texts((), ((5, "a"), (4, " ")), (" ", "a"), 3), count_texts((), (), ("a",), 0)]
+[2, 1]
+
+>>> [parting_text((), (("a", 6),), ("a",)), parting_text((), ((" ", 9),), (" ",)), parting_text((), ((" ", 9),), (" ", "a"))]
+['a\n', None, ' a\n']
+>>> [kinds_let((), "!ab\n", "a"), kinds_let((), "!ab;a\n", "c")]
+[(5,), (0, 1, 2, 3, 4, 5, 6, 7, 8, 9)]
+
+>>> [nearest_table((), ((6, "a"), (4, " "))), nearest_table((), ((5, "a"), (6, "a"))), row_clash(((5, "a"), (6, "a"))), is_row_clash((("name", "ab"), (4, " ")), ("space", 1))]
+[(('a', 6),), None, ('kinds', 0, 1, 'a'), True]
+
+>>> L = (("text", (), ()),)
+>>> moments_of("a\n") == [(0, "new", (), L, ()), (1, "within", (), L, ()), (2, "new", (), L, ())]
+True
+>>> [moment[0] for moment in moments_of("!free b!else!endtest;c\n")], [moment[4] for moment in moments_of("!free b!endtest\n")]
+([0, 12, 5, 20, 7], [(), (), (False,), (False,)])
+
+>>> U = "!free!kind!q4!else!endtest q\n"
+>>> [cut_ahead("a\n"), cut_ahead(U), parting_answers("a\n"), len(parting_answers(U))]
+[(((5, 'a'), 0, 1, 'within'), ((4, ' '), 1, 2, 'new'), (None, 2, 2, 'new')), None, None, 2]
+
+>>> [fewest_stops("a\nb\n"), fewest_stops(U), unfit_answers(U, ())[:1], fewest_stops("!kind!q4\nq\nq\n")]
+[(), None, (True,), (9,)]
+>>> [mended("ab\n", (0, 1)), are_let("a b\n", (1,)), are_let("a b\n", (2,)), fewest_mends("a\nb\n"), fewest_mends(U), fewest_mends("!kind!;6;\n")]
+[';\na;\nb\n', False, True, (), (13,), None]
+
+>>> E = ("fil", (("f", "f", ("kern", 2)), ("f", "i", ("put", "l", 0, 0, 0)), ("l", "", ("kern", -1))))
+>>> N = ("ab", (("", "a", ("put", "b", 1, 0, 1)), ("a", "b", ("put", "a", 1, 1, 0)), ("b", "a", ("put", "b", 1, 0, 1))))
+>>> [shape_of(E, "ffi"), endless_word(E), endless_word(("ab", N[1][1:2])), endless_word(N), pairs_met(N)[1]]
+[(('sign', 'f'), ('kern', 2), ('sign', 'l'), ('kern', -1)), None, 'ab', None, ('', 'b', (), 'b')]
+
+>>> M = ("ab", (("a", "b", ("kern", 1)),))
+>>> [unlike_word(M, ("ab", ())), alike_paper(M, N), is_alike_paper(M, M, (("", "", ((), ())),)), idle_rows(N)]
+['ab', None, False, [1]]
+'''
+
+
+class Examples(unittest.TestCase):
+    def test_examples_of_the_interface(self):
+        names = {}
+        for module in MODULES:
+            names.update(vars(importlib.import_module("settlepages." + module)))
+        test = doctest.DocTestParser().get_doctest(EXAMPLES, names, "interface", None, None)
+        told = []
+        results = doctest.DocTestRunner().run(test, out=told.append)
+        self.assertEqual(results.failed, 0, "".join(told))
+        self.assertEqual(results.attempted, 31)
+
+
+if __name__ == "__main__":
+    unittest.main()
