@@ -25,7 +25,8 @@ def leave_level(run, step):
     left = run.levels.pop()
     things = tuple(run.rows.pop()) if left.label == "box" else ()
     run.tell(("left", left.label))
-    for key in keys_changed(left, run.levels[-1]):
+    changed = keys_changed(left, run.levels[-1])
+    for key in changed:
         run.tell(("back", key))
     run.put_ahead(left.kept, step)
     if left.label == "box":

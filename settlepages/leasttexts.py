@@ -4,6 +4,7 @@ from settlepages.checks import need_number, need_signs, need_table, need_text
 from settlepages.cutting import LONGEST_NAME, PAR, SPACE, standing_behind_name, tokens_told
 from settlepages.errors import TooMany
 from settlepages.kinds import MOST_SIGNS, kind_in, kinds_of
+from settlepages.orders import lesser
 from settlepages.rowmoves import Writer
 from settlepages.tokenrows import need_token_row
 
@@ -11,19 +12,12 @@ WRITER_STANDINGS = ("new", "within", "skip", "name")
 MOST_COUNTED = 40
 
 
-def lesser_text(one, other):
-    """Return the shorter one of two texts, or the first one in order; None is no text."""
-    if one is None or other is None:
-        return other if one is None else one
-    return one if (len(one), one) <= (len(other), other) else other
-
-
 def least_move(writer, token, standing, behind):
     """Return the least text from a standing that begins with a token, or None; behind tells what can follow."""
     least = None
     for signs, there in writer.moves(token, standing):
         if behind[there] is not None:
-            least = lesser_text(least, signs + behind[there])
+            least = lesser(least, signs + behind[there])
     return least
 
 
@@ -33,7 +27,7 @@ def with_line_ends(writer, least):
     for standing in WRITER_STANDINGS:
         end = writer.line_end(standing)
         ended = None if end is None or least["new"] is None else end + least["new"]
-        found[standing] = lesser_text(least[standing], ended)
+        found[standing] = lesser(least[standing], ended)
     return found
 
 

@@ -3,6 +3,7 @@
 from settlepages.checks import need_text
 from settlepages.errors import InvalidMends, InvalidStops
 from settlepages.kinds import are_ascending, is_integer_within
+from settlepages.orders import lesser
 from settlepages.segments import REMARK_PUT_IN, Part, all_seeks, does_part_fit, is_part_let, line_starts, part_limit
 from settlepages.turns import need_short_text, paths_of
 from settlepages.unfits import first_unfit
@@ -35,13 +36,6 @@ def unfit_answers(text, stops):
     return first_unfit(paths_of(text), stops)
 
 
-def lesser_row(one, other):
-    """Return the shorter one of two rows, or the first one in order; None is no row."""
-    if one is None or other is None:
-        return other if one is None else one
-    return one if (len(one), one) <= (len(other), other) else other
-
-
 def fewest_stops(text):
     """Return, of the rows with the fewest stops that fit, the first one in Python's order, or None."""
     need_text(text)
@@ -54,7 +48,7 @@ def fewest_stops(text):
         best = () if limit == len(text) else None
         for stop in starts:
             if start < stop <= limit and fewest[stop] is not None:
-                best = lesser_row(best, (stop, *fewest[stop]))
+                best = lesser(best, (stop, *fewest[stop]))
         fewest[start] = best
     return fewest[0]
 
@@ -103,7 +97,7 @@ def best_mends(paths, seeks, start, fewest):
     best = None
     for mend in range(start + 1, end):
         if fewest[mend] is not None and is_part_good(paths, seeks, Part(text, start, mend, True)):
-            best = lesser_row(best, (mend, *fewest[mend]))
+            best = lesser(best, (mend, *fewest[mend]))
     return best
 
 

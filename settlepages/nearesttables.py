@@ -84,7 +84,8 @@ def nearest_table(table, row):
     loose = loose_signs(kinds, row)
     for sign in loose:
         kinds[sign] = 6
-    for kind in kinds_asked(kinds, row):
+    asked = kinds_asked(kinds, row)
+    for kind in asked:
         sign = loose.pop() if loose else spare_sign(kinds, row)
         kinds[sign] = kind
     return table_of(kinds)

@@ -105,6 +105,8 @@ class LeastTexts(unittest.TestCase):
             least_text((), (name,) * 19 + ((6, "1"),))
         self.assertEqual(caught.exception.limit, 400)
         self.assertIsNone(least_text((("!", 6),), (name,) * 40))
+        self.assertIsNone(refused_at((), (name,) * 40))
+        self.assertEqual(nearest_table((), (name,) * 40), ())
         self.assertEqual(least_text((), ((5, "a"),) * 40), "a" * 40 + ";\n")
 
     def test_plain_texts(self):

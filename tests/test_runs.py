@@ -62,6 +62,21 @@ class Ends(unittest.TestCase):
         self.assertEqual(run_of("!kern" + "0" * 300 + "7 \n", (), 9), (("done", (("kern", 7),)), 1))
         self.assertEqual(run_of("\n" * 400, (), 2000), (("done", (("par",),) * 400), 400))
 
+    def test_forty_answers(self):
+        frees = "!free!endtest" * 30 + "\n"
+        self.assertEqual(run_of(frees, (True,) * 40, 99), (("done", ()), 60))
+        rule = "!rule!g(!free!endtest)" + "!g " * 40 + "!free b!else c!endtest\n"
+        self.assertEqual(run_of(rule, (True,) * 40, 2000)[0], ("done", signs("c")))
+        self.assertEqual(state_of("a\n", (True, False) * 20, 9)[3], (True, False) * 20)
+        self.assertEqual(state_of("!free!endtest\n", (True, False) * 20, 9)[3], (False, True) * 19 + (False,))
+
+    def test_texts_of_any_length_behind_one_another(self):
+        long = "a" * 399 + "\n"
+        self.assertEqual(run_cut(long, long, (), 2000), (("done", (signs("a" * 399) + (S,)) * 2), 800))
+        self.assertIsNone(parting_lines(long, (), 2000))
+        self.assertIsNotNone(parting_lines("a" * 393 + "!kern" + ";\n", (), 2000))
+        self.assertIsNotNone(parting_lines("a" * 392 + "!kern5" + ";\n", (), 2000))
+
     def test_forty_within_each_other(self):
         text = "!let!e!everywhere" + "!e" * 39 + "!num0 7 !text!num0\n"
         self.assertEqual(run_of(text, (), 99), (("done", signs("7") + (S,)), 44))
