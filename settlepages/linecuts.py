@@ -71,7 +71,11 @@ def parts_by(text, mends):
     """Return the list of the parts between the beginnings of lines, mends, and the end of a text."""
     breaks = sorted([(start, False) for start in line_starts(text)] + [(mend, True) for mend in mends])
     breaks.append((len(text), False))
-    return [Part(text, breaks[at][0], *breaks[at + 1]) for at in range(len(breaks) - 1)]
+    parts = []
+    for at in range(len(breaks) - 1):
+        stop, is_mended = breaks[at + 1]
+        parts.append(Part(text, breaks[at][0], stop, is_mended))
+    return parts
 
 
 def are_let(text, mends):

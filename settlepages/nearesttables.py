@@ -80,7 +80,8 @@ def nearest_table(table, row):
     need_few_signs(row)
     if row_clashes(row):
         return None
-    kinds = {**kinds_of(table), **kinds_needed(row)}
+    kinds = kinds_of(table)
+    kinds.update(kinds_needed(row))
     loose = loose_signs(kinds, row)
     for sign in loose:
         kinds[sign] = 6
