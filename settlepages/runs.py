@@ -53,7 +53,6 @@ def lay_text(run, text):
     run.text = text
     run.at = 0
     run.standing = "new"
-    run.exhausted = False
 
 
 def run_cut(text, other, answers, most):

@@ -68,6 +68,11 @@ class Moments(unittest.TestCase):
                 (9, "within", (), (("text", (), ()), ("brace", (), ((5, "a"),))), ()),
                 (17, "skip", (), (("text", (), ()), ("brace", ((("num", "0"), 1),), ((5, "a"),))), ()),
             ]),
+            ("!box(a)b\n", [
+                FIRST, (5, "within", (), (("text", (), ()), ("box", (), ())), ()),
+                (6, "within", (), (("text", (), ()), ("box", (), ())), ()), (7, "within", (), level, ()),
+                (8, "within", (), level, ()), (9, "new", (), level, ()),
+            ]),
             ("!rule!f(!f)!f\n", [
                 FIRST, (11, "within", (), (("text", ((("name", "f"), ("rule", (), (("name", "f"),))),), ()),), ()),
                 (13, "skip", (("name", "f"),), (("text", ((("name", "f"), ("rule", (), (("name", "f"),))),), ()),), ()),
@@ -195,6 +200,7 @@ class Stops(unittest.TestCase):
         for text, told in (
             ("", ()), ("a\n", ()), ("\n\n\n", ()), ("!kind!q4\nq\nq\n", (9,)), ("!kind!q4\nq!kind!q6\nq\n", (9, 19)),
             ("(!kind!q4\n)q\n", ()), ("!kind!q4 q\n", None), ("!free!kind!q4!endtest\nq\n", (22,)),
+            ("!kind!q9\n!kind!q8+q\n", None), ("!kind!q9\n!kind!q8\n+q\n", (9, 18)),
             ("q;\n" * 5 + "!kind!q4\nq\n", (24,)), ("!kind!q4\n;\n;\nq\n", (9,)),
         ):
             self.assertEqual(fewest_stops(text), told, text)

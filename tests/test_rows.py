@@ -318,6 +318,8 @@ class NearestTables(unittest.TestCase):
             (bare, (("name", "a"), SP, (5, "b")), 2), (bare, ((5, "a"), PAR), 1), (bare, (PAR,), 0),
             (bare, (("name", "a"), (5, "b"), PAR), 1), (bare, (("name", "b"), PAR), 1), (bare, (("name", "+"), PAR), 1),
             (bare, (("name", "+"),), 2), (bare, (("name", "+"), SP), 1), ((("!", 6),), (("name", "!"), SP), 1),
+            ((("+", 5), (";", 6)), (("name", "+b"),), 0), ((("!", 6), ("+", 5), (";", 6)), (("name", "+b"),), 1),
+            (((";", 6),), ((5, "b"), PAR), 0), (((";", 6), ("p", 6)), ((5, "b"), PAR), 1),
             ((), ((6, "!"), ("name", "ab")), 2), ((), ((6, ";"), (5, "a")), 2), ((), ((1, " "), SP), 1),
         ):
             near = nearest_table(table, row)

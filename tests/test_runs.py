@@ -144,6 +144,8 @@ class Ends(unittest.TestCase):
         for text, told in (
             (f"!num1 {top} !more!num1-{top} !text!num1;\n", signs("0")),
             (f"!num1-{top} !more!num1 {top} !text!num1;\n", signs("0")),
+            (f"!num1 {top - 1} !more!num1 1 !kern!num1;\n", (("kern", top),)),
+            (f"!len1-{top - 1} !more!len1-1 !kern!len1;\n", (("kern", -top),)),
             (f"!num1-{top} !kern-!num1;\n", (("kern", top),)),
             (f"!space {top}-{top} 0 {top} 2 ;\n", (("space", top, -top, 0, top, 2),)),
         ):
