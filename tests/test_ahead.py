@@ -200,7 +200,7 @@ class Stops(unittest.TestCase):
         for text, told in (
             ("", ()), ("a\n", ()), ("\n\n\n", ()), ("!kind!q4\nq\nq\n", (9,)), ("!kind!q4\nq!kind!q6\nq\n", (9, 19)),
             ("(!kind!q4\n)q\n", ()), ("!kind!q4 q\n", None), ("!free!kind!q4!endtest\nq\n", (22,)),
-            ("!kind!q9\n!kind!q8+q\n", None), ("!kind!q9\n!kind!q8\n+q\n", (9, 18)),
+            ("!kind!q8\n!kind!q9+q\nc\n", None), ("!kind!q9\n!kind!q8+q\nc\n", None), ("!kind!q9\n!kind!q8+q\n", None), ("!kind!q9\n!kind!q8\n+q\n", (9, 18)),
             ("q;\n" * 5 + "!kind!q4\nq\n", (24,)), ("!kind!q4\n;\n;\nq\n", (9,)),
         ):
             self.assertEqual(fewest_stops(text), told, text)

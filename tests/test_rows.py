@@ -302,6 +302,7 @@ class Clashes(unittest.TestCase):
         self.assertIs(is_row_clash((("name", "a"), SP, (5, "a"), SP), ("behind", False, 2, "a")), False)
         self.assertIs(is_row_clash(((5, "a"), SP, SP, (5, "a")), ("space", 2)), True)
         self.assertIs(is_row_clash((SP,), ("space", False)), False)
+        self.assertIs(is_row_clash((("name", "ab"), SP), ("behind", 0, 0, "ab")), False)
 
 
 class NearestTables(unittest.TestCase):
@@ -320,6 +321,8 @@ class NearestTables(unittest.TestCase):
             (bare, (("name", "+"),), 2), (bare, (("name", "+"), SP), 1), ((("!", 6),), (("name", "!"), SP), 1),
             ((("+", 5), (";", 6)), (("name", "+b"),), 0), ((("!", 6), ("+", 5), (";", 6)), (("name", "+b"),), 1),
             (((";", 6),), ((5, "b"), PAR), 0), (((";", 6), ("p", 6)), ((5, "b"), PAR), 1),
+            (((";", 6),), (("name", "a"),), 0), (((";", 6),), (("name", " "), PAR), 0), ((), (("name", " "), SP), 1),
+            (((" ", 8), ("!", 6), (";", 6)), (("name", "ab"), (5, "c")), 1),
             ((), ((6, "!"), ("name", "ab")), 2), ((), ((6, ";"), (5, "a")), 2), ((), ((1, " "), SP), 1),
         ):
             near = nearest_table(table, row)
