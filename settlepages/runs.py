@@ -73,9 +73,10 @@ def parting_lines(text, answers, most):
     run, end, _ = ran(text, answers, most)
     if end == ("more",):
         return None
-    # A figure goes on with the number that stood open, but is a sign of its own behind the state.
+    # Figures go on with the number that stood open: so many make it too great, whatever it is, and whatever the run
+    # does with it. Behind the state they are signs of their own, which end no run with the error "number".
     if run.stood_open:
-        return "0\n"
+        return "9999999999\n"
     # One line more gives the token that was wanted, so the text cannot end at the same index.
     if end[:2] == ("error", "ends"):
         return "\n"

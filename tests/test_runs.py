@@ -2,6 +2,7 @@
 
 import unittest
 
+from settlepages.kinds import is_text
 from settlepages.runs import brought_of, events_of, parting_lines, read_of, run_cut, run_of, state_of
 from tests.run_cases import CASES, MOST
 from tests.texts import random_answers, random_texts
@@ -352,6 +353,47 @@ class States(unittest.TestCase):
             other = parting_lines(text, (), 99)
             self.assertIsNotNone(other, text)
             self.assertNotEqual(run_cut(text, other, (), 2000)[0], run_of(text + other, (), 2000)[0], text)
+
+    def check_open_number(self, text):
+        state = state_of(text, (), 300)
+        self.assertTrue(state is None or state[5] is True, text)
+        other = parting_lines(text, (), 300)
+        self.assertIs(is_text(other), True, text)
+        self.assertNotEqual(run_cut(text, other, (), 2000)[0], run_of(text + other, (), 2000)[0], text)
+
+    def test_parting_lines_of_the_open_numbers_of_all_words(self):
+        words = (
+            "!num1=", "!len2 ", "!more!num0 ", "!more!len7", "!kern", "!place", "!space 1 2 0 3 ", "!equal 0 ",
+            "!less-5 ", "!less 1 ", "!everywhere!num3=", "!everywhere!more!num1 ", "(!kern", "!box(!num0",
+            "!first a!first!endtest!equal 0 ", "!kern!first 3!equal 0 ", "!num1=!first 3!less 0 ",
+        )
+        for word in words:
+            for number in ("0", "00", "7", "-3", "--0", "1000000000", "9" * 10, "-1234567890", "5" * 11):
+                self.check_open_number(word + number + ";\n")
+                self.check_open_number("ab" + word + number + ";c\n")
+
+    def test_parting_lines_of_an_open_number_with_more_behind_it(self):
+        for test in (
+            "!equal 0 0", "!equal-1 -1", "!less 1 2", "!less 1 1000000000", "!less-9 -1", "!less 0 9999999999",
+            "!less 3 2", "!less -1 0",
+        ):
+            for behind in (
+                "!first!stop", "!first!endtest!first!stop", "!first!stop!first!endtest", "!first)", "!first!x",
+                "!first!else", "!first a!first!endtest", "!first!endtest!first!par", "!first 3", "!kern!first 3",
+                "!rule!f(!stop)!first!endtest!first!f", "(!first)!first!endtest!first!stop",
+                "!box(a!first)!first!endtest!first!stop", "!rule!f(!stop)(!after!f!first)!first!endtest",
+            ):
+                self.check_open_number(behind + test + ";\n")
+
+    def test_parting_lines_where_no_word_can_be_called(self):
+        for text in (
+            "!let!else a!first!endtest!first!stop!less 1 2;\n",
+            "!let!e!endtest!let!s!stop!let!else!x!let!endtest!x!let!stop!x!first!e!first!s!less 1 2;\n",
+            "!kind!&0&kind&!5&first&endtest&first&stop&less 1 2;\n",
+            "!kind!&0&kind&!8&let&else&x&first&endtest&first&stop&equal 0 0;\n",
+        ):
+            self.assertEqual(run_of(text, (), 300)[0], ("done", ()), text)
+            self.check_open_number(text)
 
     def test_first_lines_tell_what_the_whole_text_tells(self):
         firsts = random_texts(3, 600, 9, 200)
