@@ -6,7 +6,8 @@ import unittest
 
 MODULES = (
     "errors", "kinds", "cutting", "runs", "tokenrows", "leasttexts", "tableparts", "nearesttables", "moments",
-    "aheads", "linecuts", "pairshapes", "alikeshapes",
+    "aheads", "linecuts", "pairshapes", "alikeshapes", "shapecuts", "shapefinds", "rowworks", "rowcodes", "earlyrules",
+    "paragraphs", "linekeys", "linedrops", "routines", "resting", "handing", "behind", "alike",
 )
 
 EXAMPLES = r'''
@@ -75,6 +76,60 @@ True
 >>> M = ("ab", (("a", "b", ("kern", 1)),))
 >>> [unlike_word(M, ("ab", ())), alike_paper(M, N), is_alike_paper(M, M, (("", "", ((), ())),)), idle_rows(N)]
 ['ab', None, False, [1]]
+
+>>> [cut_pairs(M), uncut_words(M, "b", "a")]
+[[('a', 'a'), ('b', 'a'), ('b', 'b')], None]
+
+>>> K = ("ab", (("a", "b", ("put", "a", 1, 0, 0)),))
+>>> [word_for(E, (("sign", "l"), ("kern", -1))), word_for(E, (("kern", 2),)), felt_far(M), felt_far(K), word_for(K, (("sign", "a"),) * 3)]
+['l', None, 1, None, 'aaa']
+
+>>> V, R = ((("num", "0"), 3),), ((0, "x"),)
+>>> F = (("name", "equal"), ("name", "num"), (6, "0"), (6, "3"), (4, " "), (5, "a"), ("name", "else"), (5, "b"), ("name", "endtest"))
+>>> [are_values(V), is_plain_row(R), row_worked(V, F, ()), row_worked((), F, ()), row_worked(V, F[1:], ())]
+[True, False, ('row', ((5, 'a'),)), ('row', ((5, 'b'),)), ('error', 'test')]
+>>> D = ((("num", "0"), (0, 3, 4)), (("num", "1"), (0, 1)))
+>>> [are_choices(D), changed_values(V, D, (0, 1)), changed_values(V, D, (2, 0))]
+[True, ((('num', '1'), 1),), ((('num', '0'), 4),)]
+
+>>> L = least_code(V, D, F, ())
+>>> [L, is_row_code(D, L), code_told(D, L, (1, 1)), unlike_case(V, D, F, ((5, "b"),)) in ((1, 0), (1, 1)), needed_keys(V, D, F), needed_keys(V, D, F[5:6])]
+[(('end', ('row', ((5, 'b'),))), ('end', ('row', ((5, 'a'),))), ('ask', ('num', '0'), (0, 1, 0))), True, ('row', ((5, 'a'),)), True, [('num', '0')], []]
+
+>>> U = ("f", (None,), (("name", "text"), ("name", "num"), (6, "0"), (3, "$"), (6, "1")), ((("name", "f"), (5, "z")),))
+>>> [rule_early(V, U), unlike_use(V, D[1:], U), unlike_use(V, D, U)[0], use_codes(V, D[1:], U)[0][0]]
+[('rule', (None,), ((6, '3'), 0)), None, 0, (('end', ('row', ((6, '3'), (5, 'z')))),)]
+
+>>> X = ((20, 30), 1, 0, 7, (0, 0))
+>>> P = (("box", 20), ("place", 3, 1, 0, 0, 5), ("gap", 9, 0, 0), ("box", 30), ("place", None, 0, 0, 0, 0), ("box", 4))
+>>> [way_cost(P, X, ((1, "plain"), (4, "marked"))), way_cost(P, X, ((1, "marked"), (4, "marked"))), way_cost(P, X, ((1, "plain"),)), least_way(P, X)]
+[3, 8, None, ((1, 'plain'), (4, 'marked'))]
+
+>>> [key_way(P, X, (8, False, False)), is_enough(X, (0, False, True)), is_enough(X, (8, True, False)), do_split(X), parting_pair(((20,), 1, 0, 0, (0, 5)))]
+[((1, 'marked'), (4, 'marked')), True, False, False, None]
+
+>>> [is_safe((P[1], P[2])), is_safe((("gap", 0, 0, 1),)), dropping_way((("box", 21), ("place", 0, None, 0, 0, 0), ("gap", 0, 0, 1)), X)]
+[True, False, None]
+
+>>> R = ((((0,), (), 0), ((1,), (0,), 1), ((), (1, 1), 0), ((2,), (), -1)), (((), (), 0), ((), (), -1), ((2,), (2,), 0), ((), (0,), 0)))
+>>> U = ((((), (0,), 0), ((), (), 0), ((), (1, 2), 0), ((), (), -1)),)
+>>> [turned(R, (2, 0), 99), turned(R, (2, 0), 6), told_on(U, (1, 1)), told_on(U, (1, 2))]
+[('rest', (1, 1, 0, 2), (), 7), ('more',), ('rest', (), (), 3), ('never',)]
+
+>>> [pairs_told(R)[1:5], endless_stack(R), endless_stack(U), rest_paper(U)]
+[[(0, 1, 0, 2), (0, 2, 0, 5), (0, 3, 'rest', 1), (1, 0, 0, 1)], None, (0,), None]
+>>> is_rest_paper(R, ((0, 0, 0, 1), (0, 1, 0, 2), (0, 2, 0, 5), (0, 3, -1, 1), (1, 0, 0, 1)))
+True
+
+>>> [walk_of(R), handing_stack(R, (1, 1, 2)), none_paper(R, (2,)), is_none_paper(R, (1,), ((0, 0), (0, 1)))]
+[((0, 0, (0,), 0), (0, 1, (1,), 0), (0, 2, (1, 1), 0), (0, 3, (2,), -1)), (2,), None, True]
+
+>>> V = ((((), (), 0), ((0, 0), (), 0), ((), (2,), 1), ((1,), (), -1)), (((), (), 1), ((), (), 1), ((), (), -1), ((), (), -1)))
+>>> [told_behind(R, V, (1, 0)), endless_behind(R, U), endless_behind(R, V)]
+[('rest', (0, 0), (), 8), (), None]
+
+>>> [hand_out_alike(R, R), parting_stack(V, V), is_handed_paper(V, V, ((-1, -1, (), ()), (0, 0, (), ())))]
+[True, None, True]
 '''
 
 
@@ -87,7 +142,7 @@ class Examples(unittest.TestCase):
         told = []
         results = doctest.DocTestRunner().run(test, out=told.append)
         self.assertEqual(results.failed, 0, "".join(told))
-        self.assertEqual(results.attempted, 31)
+        self.assertEqual(results.attempted, 57)
 
 
 if __name__ == "__main__":

@@ -38,6 +38,21 @@ INTERFACE = {
     "linecuts": {"unfit_answers": 2, "fewest_stops": 1, "mended": 2, "are_let": 2, "fewest_mends": 1},
     "pairshapes": {"is_pairs": 1, "shape_of": 2, "endless_word": 1, "pairs_met": 1},
     "alikeshapes": {"unlike_word": 2, "alike_paper": 2, "is_alike_paper": 3, "idle_rows": 1},
+    "shapecuts": {"cut_pairs": 1, "uncut_words": 3},
+    "shapefinds": {"word_for": 2, "felt_far": 1, "felt_words": 1},
+    "rowworks": {"are_values": 1, "is_plain_row": 1, "are_choices": 1, "row_worked": 3, "changed_values": 3},
+    "rowcodes": {"least_code": 4, "is_row_code": 2, "code_told": 3, "unlike_case": 4, "needed_keys": 3},
+    "earlyrules": {"rule_early": 2, "rule_late": 2, "unlike_use": 3, "use_codes": 3},
+    "paragraphs": {
+        "is_paragraph": 1, "are_costs": 1, "way_cost": 3, "least_way": 2, "price_paper": 2, "is_price_paper": 3,
+    },
+    "linekeys": {"is_enough": 2, "key_way": 3, "parting_paragraph": 2, "do_split": 1, "parting_pair": 1},
+    "linedrops": {"is_safe": 1, "dropping_way": 2, "dropped_pair": 1},
+    "routines": {"is_routine": 1, "turned": 3, "told_on": 2},
+    "resting": {"pairs_told": 1, "endless_stack": 1, "is_rest_paper": 2, "rest_paper": 1},
+    "handing": {"walk_of": 1, "handing_stack": 2, "is_none_paper": 3, "none_paper": 2},
+    "behind": {"told_behind": 3, "endless_behind": 2},
+    "alike": {"hand_out_alike": 2, "parting_stack": 2, "is_handed_paper": 3, "handed_paper": 2},
 }
 
 
