@@ -97,6 +97,8 @@ def none_paper(routine, marks):
     states = [seeker.first_state()]
     at = 0
     while at < len(states):
-        states.extend([behind for behind in states_behind(seeker, states[at]) if behind not in states])
+        for behind in states_behind(seeker, states[at]):
+            if behind not in states:
+                states.append(behind)
         at += 1
     return tuple(sorted(states))
