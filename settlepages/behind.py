@@ -13,7 +13,7 @@ def told_behind(routine, other, stack):
     need_stack(stack)
     first = row_of_rest(told_on_stack(turns_of_resting(routine), stack))
     told = told_on_stack(PairTurns(other), first[1])
-    return row_of_rest(Told(told.goal, told.turns + first[3], told.count, told.marks, told.left))
+    return row_of_rest(Told(told.goal, told.turns + first[3], told.many, told.marks, told.left))
 
 
 class BehindSeeker:

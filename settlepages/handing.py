@@ -36,9 +36,9 @@ class HandingSeeker:
         if post == REST:
             return None
         found = self.turns.outcome(post, line)
-        if self.marks[count:count + found.count] != found.marks:
+        if self.marks[count:count + found.many] != found.marks:
             return None
-        return (found.goal, count + found.count)
+        return (found.goal, count + found.many)
 
 
 def walk_of(routine):

@@ -16,10 +16,10 @@ class Told:
     At REST it tells the lines that are left, too.
     """
 
-    def __init__(self, goal, turns, count, marks, left):
+    def __init__(self, goal, turns, many, marks, left):
         self.goal = goal
         self.turns = turns
-        self.count = count
+        self.many = many
         self.marks = marks
         self.left = left
 
@@ -31,9 +31,9 @@ def started_at(post):
 
 def behind_told(one, other):
     """Return what comes of two rows of lines, one behind the other."""
-    count = one.count + other.count
-    marks = one.marks + other.marks if count <= MOST_MARKS_TOLD else None
-    return Told(other.goal, one.turns + other.turns, count, marks, other.left)
+    many = one.many + other.many
+    marks = one.marks + other.marks if many <= MOST_MARKS_TOLD else None
+    return Told(other.goal, one.turns + other.turns, many, marks, other.left)
 
 
 class PairTurns:
@@ -69,7 +69,7 @@ class PairTurns:
         for at, line in enumerate(lines):
             found = behind_told(found, self.outcome(found.goal, line))
             if found.goal == REST:
-                return Told(REST, found.turns, found.count, found.marks, found.left + lines[at + 1:])
+                return Told(REST, found.turns, found.many, found.marks, found.left + lines[at + 1:])
             if found.goal == NEVER:
                 return found
         return behind_told(found, self.outcome(found.goal, FOOT)) if has_foot else found
@@ -122,7 +122,7 @@ def turns_of_resting(routine):
 
 def need_few_marks(turns):
     """Raise TooMany if a pair of the walk of a routine hands out too many marks."""
-    if any([turns.outcome(post, sort).count > MOST_MARKS_TOLD for post, sort in turns.pairs_led_to()]):
+    if any([turns.outcome(post, sort).many > MOST_MARKS_TOLD for post, sort in turns.pairs_led_to()]):
         raise TooMany(MOST_MARKS_TOLD)
 
 
@@ -130,7 +130,7 @@ def row_of_rest(told):
     """Return the row that is told of a run: that it never rests, or how it rests, if its marks are not too many."""
     if told.goal == NEVER:
         return ("never",)
-    if told.count > MOST_MARKS_TOLD:
+    if told.many > MOST_MARKS_TOLD:
         raise TooMany(MOST_MARKS_TOLD)
     return ("rest", told.marks, told.left, told.turns)
 

@@ -56,9 +56,9 @@ class Changes:
         self.met = met
         self.words = {}
         self.firsts = []
-        words = words_to_standings(PairWork(calm))
-        for standing in words:
-            self.begin(standing, words[standing])
+        least_words = words_to_standings(PairWork(calm))
+        for standing in least_words:
+            self.begin(standing, least_words[standing])
         self.go_on()
 
     def begin(self, standing, word):

@@ -242,7 +242,7 @@ class PricePapers(unittest.TestCase):
             (least, (first[:4],) + rows[1:]), (least, (first + (1,),) + rows[1:]), (least, ((False, *first[1:]),) + rows[1:]), (least, ((0, True) + first[2:],) + rows[1:]),
             (least, ((0, 1, False, "plain", 10003),) + rows[1:]), (least, ((0, 1, 0, "plain", True),) + rows[1:]), (least, ((0, 1, 0, "marked", 3),) + rows[1:]),
             (least, ((0, 1, 0, "plain", LEAST - 1),) + rows[1:]), (least, ((0, 1, 0, ["plain"], 3),) + rows[1:]), (least, ((0, 1, 0, None, 3),) + rows[1:]),
-            (least, rows + ((3, 2, 2, "plain", 0),)), (least, ((-1, 0, 0, "plain", 0),) + rows), (least, rows[:1] + ((1, 1, 2, "marked", 0),) + rows[1:]),
+            (least, ((0, 1, 0, "plain", 10002),) + rows), (least, rows + ((3, 2, 2, "plain", 0),)), (least, ((-1, 0, 0, "plain", 0),) + rows), (least, rows[:1] + ((1, 1, 2, "marked", 0),) + rows[1:]),
         ):
             self.assertIs(is_price_paper(paragraph, costs, value), False, value)
         for value in ODD:
@@ -331,22 +331,50 @@ class Keys(unittest.TestCase):
             ways[told] = ways.get(told, 0) + 1
         self.assertGreater(min(ways.values()), 10, ways)
 
+    def test_parting_paragraphs_at_all_edges(self):
+        for cap in range(9):
+            for number in (0, 1, 2, cap, cap + 1, cap + 2, 48, 49, 50, 51, 1000):
+                for weight in (0, 1000):
+                    self.check_parted(((10,), weight, 0, 0, (number, 1)), (cap, False, False))
+            for at in range(7):
+                for widths in ((10,) * at + (1000,) + (10,) * (7 - at), (999,) * (at + 1) + (10,), (10,) * (at + 1) + (11,)):
+                    self.check_parted((widths, 1000, 0, 0, (at, 0)), (cap, True, False))
+        for first in (10, 1000):
+            for second in (10, 999, 1000):
+                for weight in (0, 1, 1000):
+                    for near in (1, 1000):
+                        for third in (10, 1000):
+                            self.check_parted(((first, second, third), weight, near, 0, (2, 1)), (None, False, True))
+                    self.check_parted(((first, second), weight, 5, 1, (2, 1)), (0, True, False))
+
+    def test_parting_pairs_at_all_edges(self):
+        for widths in ((10,), (10, 11), (10, 10, 10, 10, 10, 10, 10, 9 + 2), (1000, 10), (10, 1000) * 4):
+            for near in (0, 1):
+                for wish in ((0, 0), (0, 7), (1, 0), (1, 1), (2, 1), (3, 1), (4, 1), (1000, 1), (2, 1000)):
+                    self.check_pair((widths, 0, near, 0, wish))
+                    self.check_pair((widths, 1000, near, 1000, wish))
+
+    def check_pair(self, costs):
+        widths, _, near, _, wish = costs
+        splits = near == 0 and len(set(widths)) == 1 and 0 in wish
+        self.assertIs(do_split(costs), splits)
+        told = parting_pair(costs)
+        self.assertEqual(told is None, splits, costs)
+        if told is not None:
+            self.assertIsInstance(told, tuple)
+            one, other = told
+            self.assertTrue(is_paragraph(one) and is_paragraph(other) and len(one + other) <= 59)
+            parts = [least_slowly(one, costs), least_slowly(other, costs)]
+            both = None if None in parts else sum(parts)
+            self.assertNotEqual(least_slowly(one + (END,) + other, costs), both, (costs, told))
+        return splits
+
     def test_parting_pairs(self):
         source = random.Random(33)
         counts = {}
         for costs in self.all_costs(source, 900):
-            widths, _, near, _, wish = costs
-            splits = near == 0 and len(set(widths)) == 1 and 0 in wish
-            self.assertIs(do_split(costs), splits)
-            told = parting_pair(costs)
-            self.assertEqual(told is None, splits, costs)
+            splits = self.check_pair(costs)
             counts[splits] = counts.get(splits, 0) + 1
-            if told is not None:
-                one, other = told
-                self.assertTrue(is_paragraph(one) and is_paragraph(other) and len(one + other) <= 59)
-                parts = [least_slowly(one, costs), least_slowly(other, costs)]
-                both = None if None in parts else sum(parts)
-                self.assertNotEqual(least_slowly(one + (END,) + other, costs), both, (costs, told))
         self.assertGreater(min(counts.values()), 60, counts)
 
     def test_costs_that_split(self):

@@ -141,6 +141,8 @@ class ValuesAndChoices(unittest.TestCase):
             (("num", 0), 1), (("num", ""), 1), (("num", "01"), 1), (("len", "0"), -(10 ** 9) - 1), (("row", "0"), ()), (("row", "0"), letters("a" * 61)),
             (("row", "0"), [(5, "a")]), (("row", "0"), ((0, "!"),)), (("rows", "0"), 1), (["num", "0"], 1), (("num", "0", 1), 1), (("num", "0"),), 5, "ab",
             (("num", "0"), "1"), (name("f\\"), rule), (name("f"), ("rule", (), (["a"],))), ((5, "a"), 1), ((None, None), None),
+            (name("f"), ("tokens", (5, "a"))), (name("f"), ("word", "par", 1)), (name("f"), ("token", (5, "a"), 1)), (("kind", "a"), -1), (("num", ["0"]), 1),
+            (("row", "0"), ((0, " "),)), (("row", "0"), ((8, " "),)), (name("f"), ("word",) * 4), ((["num"], "0"), 1),
         )
         for pair in good:
             self.assertIs(are_values((pair,)), True, pair)
@@ -319,6 +321,7 @@ class Codes(unittest.TestCase):
             (end, ("ask", first, (0,))), (end, ("ask", first, (0, 0, 0))), (end, ("ask", first, [0, 0])), (end, ("ask", first, (0, False))),
             (end, ("ask", first, (0, -1))), (end, ("ask", ("num", "1"), (0, 0))), (end, ("ask", ["num", "0"], (0, 0))), (end, ("ask", (["a"], "0"), (0, 0))),
             (end, ("asks", first, (0, 0))), (end, ("ask", first)), ("end",), (5,), (end, ("ask", None, (0, 0))), (("ends", ("row", ())),),
+            (("end", ("errors", "a")),), (end, ("ask", ("num", ["0"]), (0, 0))),
         ):
             self.assertIs(is_row_code(choices, code), False, code)
         for value in ODD:
@@ -422,7 +425,8 @@ class EarlyRules(unittest.TestCase):
         row = (name("g"), (1, "("), name("g"), (1, "("), name("g"), (1, "("), name("k"), (2, ")"), (2, ")"), (2, ")"))
         self.assertEqual(rule_early(long, ("r", (), row, ((),))), ("rule", (), letters("x" * 400)))
         self.assertIsNone(unlike_use(long, (), ("r", (), row, ((name("r"),),))))
-        self.assertEqual(unlike_use(long, (), ("r", (), row, ((), (name("r"), (5, "y"))))), None)
+        self.assertIsNone(unlike_use(long, (), ("r", (), row, ((), (name("r"), (5, "y"))))))
+        self.assertEqual(len(use_codes(long, (), ("r", (), row, ((), (), (), (name("r"),))))), 4)
         # Late, the tests of the row are asked at each use; early, once.
         row = (name("less"), (6, "1"), (4, " "), name("num"), (6, "0"), (5, "a"), name("else"), (5, "b"), name("endtest"))
         choices = ((("num", "0"), (0, 2)),)

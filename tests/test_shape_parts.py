@@ -94,14 +94,16 @@ class Cuts(unittest.TestCase):
             self.check_cuts(("ab", rows), 3)
         self.assertEqual(uncut_words(("ab", (("a", "b", ("kern", 1)),)), "a", "b"), ("a", "b"))
 
-    def test_a_word_that_parts_late(self):
-        # What follows tells late what stands at the hand: one goes on with b, the other one with c.
-        program = ("abcd", (
-            ("a", "b", ("put", "c", 0, 0, 0)), ("c", "b", ("put", "c", 0, 0, 0)), ("c", "d", ("kern", 7)),
-        ))
-        one, other = uncut_words(program, "a", "b")
-        self.assertNotEqual(shape_slowly(program, one + other), shape_slowly(program, one) + shape_slowly(program, other))
-        self.assertIn(("d", "b"), cut_pairs(program))
+    def test_words_that_part_late(self):
+        # The first letter of the word behind tells nothing yet: both go on from unlike standings, whose ends agree.
+        turning = (("a", "a", ("put", "b", 0, 1, 0)), ("a", "", ("put", "b", 0, 1, 1)), ("b", "b", ("put", "a", 1, 0, 1)), ("b", "a", ("kern", -1)))
+        ending = (("b", "", ("put", "a", 0, 1, 1)), ("", "b", ("put", "a", 1, 0, 0)))
+        for rows, pair, told in (
+            (turning, "aa", ("a", "a")), (turning, "bb", ("b", "bb")), (ending, "ab", ("a", "ba")), (ending, "bb", ("b", "ba")), (ending, "ba", ("ab", "a")),
+            (ending, "aa", None),
+        ):
+            self.check_cuts(("ab", rows), 3)
+            self.assertEqual(uncut_words(("ab", rows), pair[0], pair[1]), told)
 
     def test_great_programs(self):
         program = without_rows(WORDY, (0, 4))
@@ -203,6 +205,14 @@ class Felt(unittest.TestCase):
             self.assertEqual(felt_far(program), far, program)
             if len(program[0]) > 1:
                 self.check_words(program, far)
+
+    def test_changes_that_lead_to_further_standings(self):
+        for rows in (
+            (("d", "a", ("put", "b", 1, 1, 0)), ("a", "d", ("put", "b", 0, 0, 0)), ("b", "a", ("put", "c", 0, 0, 0))),
+            (("a", "c", ("put", "b", 1, 1, 0)), ("c", "a", ("put", "b", 0, 0, 0)), ("a", "d", ("put", "b", 1, 0, 0)), ("d", "a", ("put", "b", 1, 1, 1))),
+        ):
+            self.assertEqual(felt_far(("abcd", rows)), 3)
+            self.check_words(("abcd", rows), 3)
 
     def test_a_change_that_is_felt_for_a_while(self):
         # Each a goes one letter on in the alphabet, up to e.

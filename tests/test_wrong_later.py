@@ -19,7 +19,7 @@ NUM0, NUM1 = ("num", "0"), ("num", "1")
 BAD_LETTERS = ("", "c", "A", "aa", ("a",), 5, ["a"])
 BAD_THINGS = (
     (("sign", "a"),) * 41, [("sign", "a")], (["sign", "a"],), (("sign", "A"),), (("sign", ""),), (("sign", "ab"),), (("sign", 5),), (("kern", 100),),
-    (("kern", -100),), (("kern", True),), (("kern", "1"),), (("kern", None),), (("box", "a"),), (("sign",),), (("sign", "a", 1),), ("a",), 5, "", "sign",
+    (("kern", -100),), (("kern", True),), (("kern", "1"),), (("kern", None),), (("box", "a"),), (("box", 5),), (("sign",),), (("sign", "a", 1),), ("a",), 5, "", "sign",
     (("sign", ["a"]),), ((["sign"], "a"),),
 )
 BAD_VALUES = (
@@ -137,6 +137,7 @@ class WrongInputs(unittest.TestCase):
         check_wrong(
             self, paragraphs.way_cost, (PARAGRAPH, COSTS, ()), (InvalidParagraph, InvalidCosts, InvalidWay), {0: BAD_PARAGRAPHS, 1: BAD_COSTS, 2: BAD_WAYS},
         )
+        self.assertIs(raised(paragraphs.way_cost, ((("place", 0, 0, 0, 0, 0),), COSTS, ((-1, "plain"),))), InvalidWay)
         for way in ((), ((1, "plain"),), ((2, "marked"),), ((1, "plain"), (2, "marked"))):
             self.assertIsNone(raised(paragraphs.way_cost, (PARAGRAPH, COSTS, way)))
 
