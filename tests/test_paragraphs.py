@@ -414,9 +414,10 @@ class Dropping(unittest.TestCase):
         paragraph = (place(5), ("box", 20), wide, place(None, 0), back)
         self.assertIsNone(dropping_way(paragraph, costs))
         # The ahead of a place makes a line too wide; behind another place it begins anew.
-        paragraph = (("box", 15), place(0), ("box", 3), place(0, None, 9, 0, 0))
+        paragraph = (("box", 15), place(5), ("box", 3), place(0, None, 9, 0, 0))
         self.assertEqual(least_way(paragraph, costs), ())
         self.assertEqual(dropping_way(paragraph, costs), ((1, "plain"),))
+        self.assertEqual([way_cost(paragraph, costs, way) for way in ((), ((1, "plain"),))], [0, 5])
 
     def random_lot(self, source):
         lot = []

@@ -171,11 +171,17 @@ class Resting(unittest.TestCase):
             self.assertIs(is_rest_paper(QUIET, value), False, value)
         for value in ODD:
             self.assertIs(is_rest_paper(QUIET, value), False, value)
+        # A pair that never rests is in no paper, and need not be, if no stack leads to it.
+        spare = (QUIET[0], (((), (), 1),) * 4)
+        self.assertIs(is_rest_paper(spare, paper), True)
+        self.assertIs(is_rest_paper(spare, paper + ((1, 0, 1, 1),)), True)
+        for row in [(1, 3, goal, turns) for goal in (-2, -1, 0, 1, "never") for turns in range(4)]:
+            self.assertIs(is_rest_paper(spare, paper + (row,)), False, row)
         # A pair that needs itself at once, one by another one, and one that is never come to.
         for routine, stack in (
             (((((), (0,), 0), STAY, STAY, REST),), (0,)), (((((), (1,), 0), ((), (2, 0), 0), STAY, REST),), (0,)), (SPINNING, ()),
             (((STAY, ((), (), 1), STAY, REST), (STAY, ((), (1,), 1), ((), (), 0), STAY)), (1, 1)), (((STAY, STAY, STAY, ((), (0,), 1)), (((), (0,), 1), STAY, STAY, REST)), ()),
-            (((STAY, STAY, STAY, REST), SPINNING[0]), None), (((STAY, STAY, REST, REST), (((), (0,), 1),) * 4), None),
+            (((STAY, STAY, STAY, REST), (((), (), 1),) * 4), None), (((STAY, STAY, REST, REST), (((), (0,), 1),) * 4), None),
             (((((), (), 1), STAY, STAY, REST), (((), (), 2), ((), (), 1), ((), (), 1), REST), (((), (), 2),) * 3 + (((), (), 2),)), (0, 0)),
         ):
             self.assertIs(is_routine(routine), True)
@@ -410,12 +416,29 @@ class Alike(unittest.TestCase):
         for value in (
             paper[1:], ((0, 0, (), ()),), ((0, 0, (0,), (0,)),) + paper[1:], ((False, 0, (), ()),) + paper[1:], ((0, 0, (), (False,)),) + paper[1:], ((0, 0, (), ()),) * 2,
             paper[:1] + ((0, 1, (False,), ()),) + paper[2:], paper[:1] + ((0, 1, (3,), ()),) + paper[2:], paper[:1] + ((0, 1, ["0"], ()),) + paper[2:],
-            ((-1, 0, (), ()),) + paper, paper + ((0, 4, (), ()),), paper + ((0, 3, (2, 2), ()),), ((-2, 0, (), ()),) + paper,
+            ((-1, 0, (), ()),) + paper, ((0, False, (), ()),) + paper[1:], paper + ((0, 4, (), ()),), paper + ((0, 3, (2, 2), ()),), ((-2, 0, (), ()),) + paper,
         ):
             self.assertIs(is_handed_paper(one, late, value), False, value)
         for value in ODD:
             self.assertIs(is_handed_paper(one, late, value), False, value)
         self.assertIs(hand_out_alike(one, late), True)
+        mirrored = handed_paper(late, one)
+        for at, wrong in ((1, (False,)), (1, [0]), (2, (True,)), (3, (3,))):
+            value = tuple((*row[:3], wrong) if row[0] == at else row for row in mirrored)
+            self.assertIs(is_handed_paper(late, one, value), False, value)
+        self.assertIs(is_handed_paper(late, one, tuple((*row[:3], tuple(row[3])) for row in mirrored)), True)
+
+    def test_further_quadruples(self):
+        # Each line leads to the post 1, so both are never at unlike posts; what comes of such ones is in the paper, though.
+        routine = (((((), (), 1),) * 3 + (REST,)), ((((), (), 1),) * 3 + (REST,)))
+        paper = ((0, 0, (), ()), (1, 1, (), ()))
+        self.assertEqual(handed_paper(routine, routine), paper)
+        self.assertIs(is_handed_paper(routine, routine, (paper[0], (0, 1, (), ()), paper[1])), True)
+        self.assertIs(is_handed_paper(routine, routine, (paper[0], (0, 1, (), ()), (1, 0, (), ()), paper[1])), True)
+        for wrong in ((0, 1, (0,), (0,)), (0, 1, (0,), ()), (0, 1, (), (0,)), (0, 2, (), ())):
+            self.assertIs(is_handed_paper(routine, routine, (paper[0], wrong, paper[1])), False, wrong)
+        self.assertIs(is_handed_paper(routine, routine, ((-1, 0, (), ()),) + paper), False)
+        self.assertIs(is_handed_paper(routine, routine, ((-1, 0, (), ()), (-1, 1, (), ())) + paper), True)
 
     def test_one_that_rests_ahead_of_the_other(self):
         # Both hand out a 1 with the first line 0; the one rests then, the other one goes on, and hands out nothing.
@@ -480,7 +503,7 @@ class Errors(unittest.TestCase):
         self.assertIs(raised(told_behind, (half, QUIET, ())), NeverRests)
         self.assertIs(raised(handing_stack, (half, ())), NeverRests)
         # A post to which no stack leads does not matter.
-        spare = (QUIET[0], SPINNING[0])
+        spare = (QUIET[0], (((), (), 1),) * 4)
         self.assertEqual(handing_stack(spare, ()), ())
         self.assertIs(hand_out_alike(spare, QUIET), True)
 

@@ -118,6 +118,24 @@ class Rows(unittest.TestCase):
         row = (name("g"), (1, "("), name("g"), (1, "("), name("g"), (1, "("), name("k"), (2, ")"), (2, ")"), (2, ")"))
         self.assertEqual(row_worked(values, row, ()), ("row", letters("x" * 400)))
         self.assertEqual(row_worked(values, row + ((5, "y"),), ()), ("error", "full"))
+        # A body of 991 tokens, the end of the row, and what stands behind: at most 1000 may wait.
+        body = (0,) * 49 + letters("x" * 11)
+        values = ((name("m"), ("rule", (None,), body)), (name("s"), ("rule", (), ((2, ")"),))))
+        row = (name("m"), (1, "("), name("s"), *letters("x" * 19), (2, ")"))
+        self.assertEqual(row_worked(values, row + letters("y" * 8), ()), ("row", ()))
+        self.assertEqual(row_worked(values, row + letters("y" * 9), ()), ("error", "full"))
+
+    def test_arguments_and_other_errors(self):
+        values = ((name("g"), ("rule", (None,), (0,))), (name("h"), ("rule", ((5, "x"),), (0,))))
+        for row, end in (
+            ((name("g"), (2, ")")), ("error", "argument")), ((name("g"),), ("error", "argument")), ((name("h"), (2, ")"), (5, "x")), ("error", "argument")),
+            ((name("h"), (1, "("), (5, "x"), (2, ")"), (5, "x")), ("row", ((1, "("), (5, "x"), (2, ")")))), ((name("h"), (5, "a")), ("error", "argument")),
+            ((name("h"), (1, "(")), ("error", "ends")), ((name("g"), (4, " "), (5, "b")), ("row", letters("b"))), ((name("kindis"), name("1")), ("error", "sign")),
+            ((name("kindis"), name("q"), (5, "a")), ("error", "number")), ((name("equal"), (6, "1"), (4, " "), name("num"), (6, "9")), ("error", "register")),
+            ((name("less"), (6, "-"), (6, "1"), (4, " "), (6, "0"), (5, "a"), name("endtest")), ("row", letters("a"))),
+            ((name("equal"),) + ((6, "9"),) * 10 + ((4, " "), (6, "1")), ("error", "number")),
+        ):
+            self.assertEqual(row_worked(values, row, ()), end, row)
 
 
 class ValuesAndChoices(unittest.TestCase):
