@@ -20,11 +20,16 @@ def need_table(value):
         raise InvalidTable("table")
 
 
+def are_answers(value):
+    """Return whether any value is a row of at most 40 booleans."""
+    if not isinstance(value, tuple) or len(value) > MOST_ANSWERS:
+        return False
+    return all([isinstance(answer, bool) for answer in value])
+
+
 def need_answers(value):
     """Raise InvalidAnswers for what is no row of at most 40 booleans."""
-    if not isinstance(value, tuple) or len(value) > MOST_ANSWERS:
-        raise InvalidAnswers("answers")
-    if not all([isinstance(answer, bool) for answer in value]):
+    if not are_answers(value):
         raise InvalidAnswers("answers")
 
 

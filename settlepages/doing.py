@@ -12,7 +12,7 @@ MOST_PARAMETERS = 4
 
 def begin_level(run, label):
     """Begin one more level."""
-    run.levels.append(run.levels[-1].begun(label))
+    run.level_row.append(run.level_row[-1].begun(label))
     if label == "box":
         run.rows.append([])
     run.tell(("level", label))
@@ -20,12 +20,12 @@ def begin_level(run, label):
 
 def leave_level(run, step):
     """Leave the last level."""
-    if len(run.levels) == 1:
+    if len(run.level_row) == 1:
         raise Fault("extra")
-    left = run.levels.pop()
+    left = run.level_row.pop()
     things = tuple(run.rows.pop()) if left.label == "box" else ()
     run.tell(("left", left.label))
-    changed = keys_changed(left, run.levels[-1])
+    changed = keys_changed(left, run.level_row[-1])
     for key in changed:
         run.tell(("back", key))
     run.put_ahead(left.kept, step)
@@ -189,9 +189,9 @@ def do_everywhere(run, word, wide):
 def do_after(run, word, wide):
     """Do after."""
     token = run.got()[0]
-    if len(run.levels) == 1:
+    if len(run.level_row) == 1:
         raise Fault("after")
-    run.levels[-1].kept.append(token)
+    run.level_row[-1].kept.append(token)
     run.tell(("keep", token))
 
 

@@ -83,7 +83,7 @@ def need_case(choices, value):
 def run_with(values, answers):
     """Return a run without a text, in which values are in force."""
     run = Run("", answers, MOST_STEPS_OF_ROW)
-    run.levels = [level_of(("text", values, ()))]
+    run.level_row = [level_of(("text", values, ()))]
     return run
 
 

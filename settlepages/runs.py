@@ -5,12 +5,17 @@ from settlepages.doing import run_on
 from settlepages.runstate import Run, levels_told, rows_told, tests_told
 
 
-def ran(text, answers, most):
-    """Check the arguments of a run, and return the run when it has ended, its end, and whether it hands over."""
-    need_run(text, answers, most)
+def ran_unchecked(text, answers, most):
+    """Return a run when it has ended, its end, and whether it hands over a state."""
     run = Run(text, answers, most)
     end, hands_over = run_on(run)
     return run, end, hands_over
+
+
+def ran(text, answers, most):
+    """Check the arguments of a run, and return what ran_unchecked does."""
+    need_run(text, answers, most)
+    return ran_unchecked(text, answers, most)
 
 
 def run_of(text, answers, most):
@@ -35,7 +40,7 @@ def read_of(text, answers, most):
     return [(token, at, behind) for token, at, behind, _ in run.pieces]
 
 
-def state_told(run):
+def state_handed(run):
     """Return the state that a run hands over."""
     left = run.answers[run.asked:]
     return (levels_told(run), rows_told(run), tests_told(run), left, run.place(), run.stood_open)
@@ -44,7 +49,7 @@ def state_told(run):
 def state_of(text, answers, most):
     """Return the state that a run hands over, or None."""
     run, _, hands_over = ran(text, answers, most)
-    return state_told(run) if hands_over else None
+    return state_handed(run) if hands_over else None
 
 
 def lay_text(run, text):

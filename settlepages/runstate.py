@@ -36,7 +36,7 @@ class Run:
         self.at = 0
         self.standing = "new"
         self.waiting = []
-        self.levels = [Level("text", {}, {}, [])]
+        self.level_row = [Level("text", {}, {}, [])]
         self.rows = [[]]
         self.tests = []
         self.answers = answers
@@ -62,7 +62,7 @@ class Run:
         """Take off the next token, or return None if there is none."""
         if self.waiting:
             return self.waiting.pop()
-        token, start, self.at, self.standing = next_piece(self.levels[-1].kinds, self.text, self.at, self.standing)
+        token, start, self.at, self.standing = next_piece(self.level_row[-1].kinds, self.text, self.at, self.standing)
         if token is None:
             self.exhausted = True
             return None
@@ -115,11 +115,11 @@ class Run:
 
     def value(self, key):
         """Return the value of a key in force."""
-        return self.levels[-1].value(key)
+        return self.level_row[-1].value(key)
 
     def set_value(self, key, value, wide):
         """Set a key in the last level, or in all."""
-        levels = self.levels if wide else self.levels[-1:]
+        levels = self.level_row if wide else self.level_row[-1:]
         for level in levels:
             level.put_value(key, value)
         self.tell(("set", key, value, wide))
@@ -152,7 +152,7 @@ class Run:
 
 def levels_told(run):
     """Return the row of the levels that stand."""
-    return tuple([level.told() for level in run.levels])
+    return tuple([level.told() for level in run.level_row])
 
 
 def tests_told(run):
@@ -172,6 +172,6 @@ def error_end(run, word):
 
 def closing_end(run):
     """Return the end of a run at a stop, or where there is no token to be done next."""
-    if len(run.levels) > 1 or run.tests:
+    if len(run.level_row) > 1 or run.tests:
         return error_end(run, "open")
     return ("done", tuple(run.rows[0]))

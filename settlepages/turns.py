@@ -56,7 +56,7 @@ def run_from(text, moment, answers):
     run.at = index
     run.standing = standing
     run.put_ahead(waiting, 0)
-    run.levels = [level_of(level) for level in levels]
+    run.level_row = [level_of(level) for level in levels]
     run.rows = [[]] + [[] for level in levels if level[0] == "box"]
     run.tests = [[True, has_else] for has_else in tests]
     return run

@@ -25,7 +25,7 @@ class Spy(Run):
         return bool(self.told_pieces) and self.told_pieces[-1][0] is None
 
     def get_ahead(self):
-        kinds = self.levels[-1].kinds
+        kinds = self.level_row[-1].kinds
         length = len(self.text)
         while not self.ahead_of_it and self.upto < length:
             end = min(end for end in self.ends if end > self.upto)

@@ -12,13 +12,14 @@ FILES = sorted(PACKAGE.glob("*.py"))
 TREES = {path.stem: ast.parse(path.read_text()) for path in FILES}
 BUILTINS = set(
     "len range enumerate zip min max sum abs sorted reversed int str bool bytes list tuple dict set isinstance ord repr "
-    "any all divmod Exception ValueError KeyError True False None".split()
+    "any all divmod property Exception ValueError KeyError True False None".split()
 )
 METHODS = set(
     "append clear copy count endswith extend find get index insert isalnum isalpha isdigit islower isspace isupper items "
     "join keys ljust lower lstrip partition pop remove replace reverse rfind rjust rpartition rsplit rstrip setdefault "
     "split splitlines startswith strip update upper values zfill bit_length".split()
 )
+DOUBLE = set("__init__ __len__ __bool__ __eq__".split())
 NEVER = set("register mro elements open input law version_info with_traceback add_note".split())
 NEVER_ATTRIBUTES = set("items keys values pop update append clear extend insert remove reverse setdefault sort args "
                        "encode decode hex fromhex format format_map".split())
@@ -53,7 +54,29 @@ INTERFACE = {
     "handing": {"walk_of": 1, "handing_stack": 2, "is_none_paper": 3, "none_paper": 2},
     "behind": {"told_behind": 3, "endless_behind": 2},
     "alike": {"hand_out_alike": 2, "parting_stack": 2, "is_handed_paper": 3, "handed_paper": 2},
+    "grouprows": {"is_deeds": 1, "is_state": 1, "done_deeds": 2, "deeds_of": 3},
+    "groupforms": {"form_of": 1, "are_alike": 2, "parting_state": 2},
+    "groupmoves": {"places_of": 2, "idle_deeds": 1, "idle_groups": 1, "thinned_deeds": 1},
+    "groupstacks": {"state_told": 1, "least_stack": 1, "stack_by": 3},
+    "strips": {"is_strip": 1, "is_passage": 1, "strip_width": 1, "set_places": 2},
+    "packing": {"packed": 3, "may_pack": 3, "packing_shown": 3, "set_halves": 3, "may_cut": 2, "cut_shown": 2},
+    "taking": {"fit_between": 4, "lines_taken": 3, "some_lines": 3, "may_take": 2, "taking_shown": 2},
+    "widthrows": {"width_rows": 3, "parting_widths": 4},
+    "walks": {"is_walk": 1, "walk_ended": 1, "gone_further": 2, "gone_back": 2},
+    "sources": {"way_of": 2, "source_of": 2, "come_of": 2, "things_told": 1},
+    "movefiles": {"is_file": 1, "shown_by_file": 2, "file_weight": 1},
+    "fileforms": {"form_of_file": 1, "parting_spot": 2, "is_set_out": 1},
+    "lightfiles": {"puts_marks": 2, "light_file": 1},
 }
+READER = {"__init__": 1, "enter": 2, "undo": 1, "redo": 1, "lines": 1, "levels": 1, "__len__": 1, "__bool__": 1, "__eq__": 2}
+ERRORS = (
+    "InvalidText, InvalidTable, InvalidSign, InvalidIndex, InvalidStanding, InvalidAnswers, InvalidNumber, TooMany, InvalidRow, "
+    "InvalidSigns, InvalidStops, InvalidMends, InvalidPairs, Endless, UnlikeLetters, InvalidWord, InvalidLetter, InvalidThings, "
+    "InvalidValues, InvalidChoices, InvalidCase, InvalidRowCode, InvalidUses, Refused, InvalidParagraph, InvalidCosts, InvalidWay, "
+    "InvalidKey, InvalidLot, InvalidRoutine, InvalidStack, InvalidMarks, NeverRests, InvalidDeeds, InvalidState, NoGroup, "
+    "InvalidStrip, InvalidPassage, InvalidWidth, InvalidWalk, InvalidStep, InvalidFile, InvalidSpot, InvalidLine, CannotEnter, "
+    "NothingToUndo, NothingToRedo"
+).split(", ")
 
 
 def nodes(kind):
@@ -94,7 +117,8 @@ class Files(unittest.TestCase):
     def test_functions_are_short(self):
         for name, node in nodes(ast.FunctionDef):
             self.assertLessEqual(node.end_lineno - node.lineno + 1, 40, (name, node.name))
-            self.assertEqual(node.decorator_list, [])
+            for decorator in node.decorator_list:
+                self.assertEqual((name, decorator.id), ("readers", "property"))
             if node.name != "__init__":
                 self.assertIsNotNone(ast.get_docstring(node), (name, node.name))
 
@@ -157,9 +181,9 @@ class Names(unittest.TestCase):
         methods = {item.name for _, node in nodes(ast.ClassDef) for item in node.body if isinstance(item, ast.FunctionDef)}
         for name, bound in self.bound_names():
             self.assertNotIn(bound, NEVER, name)
-            if bound != "__init__":
+            if bound not in DOUBLE:
                 self.assertFalse(bound.startswith("__"), (name, bound))
-            if bound not in methods and bound != "_":
+            if bound not in methods and bound != "_" and bound not in DOUBLE:
                 self.assertFalse(hasattr(builtins, bound), (name, bound))
 
     def test_names_of_imports_and_classes_are_not_given_again(self):
@@ -265,6 +289,30 @@ class Interface(unittest.TestCase):
                 parameters = inspect.signature(made).parameters.values()
                 self.assertEqual(len(parameters), many, function)
                 self.assertTrue(all(one.default is inspect.Parameter.empty for one in parameters))
+
+    def test_reader(self):
+        (reader,) = [node for node in TREES["readers"].body if isinstance(node, ast.ClassDef) and node.name == "Reader"]
+        methods = {node.name: node for node in reader.body if isinstance(node, ast.FunctionDef)}
+        for method, many in READER.items():
+            self.assertEqual(len(methods[method].args.args), many, method)
+        properties = {name for name, node in methods.items() if node.decorator_list}
+        self.assertEqual(properties, {"lines", "levels"})
+
+    def test_names_of_properties_are_no_attributes_and_no_methods(self):
+        stored = {node.attr for _, node in nodes(ast.Attribute) if isinstance(node.ctx, ast.Store)}
+        methods = [item.name for _, node in nodes(ast.ClassDef) for item in node.body if isinstance(item, ast.FunctionDef)]
+        for name in ("lines", "levels"):
+            self.assertNotIn(name, stored)
+            self.assertEqual(methods.count(name), 1)
+
+    def test_errors(self):
+        module = importlib.import_module("settlepages.errors")
+        self.assertEqual(module.SettleError.__bases__, (ValueError,))
+        made = {name for name, value in vars(module).items() if isinstance(value, type)}
+        self.assertEqual(made, {"SettleError", *ERRORS})
+        for name in ERRORS:
+            self.assertEqual(getattr(module, name).__bases__, (module.SettleError,), name)
+        self.assertEqual((module.TooMany(7).limit, module.Refused("row").word), (7, "row"))
 
 
 if __name__ == "__main__":
