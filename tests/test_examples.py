@@ -8,6 +8,8 @@ MODULES = (
     "errors", "kinds", "cutting", "runs", "tokenrows", "leasttexts", "tableparts", "nearesttables", "moments",
     "aheads", "linecuts", "pairshapes", "alikeshapes", "shapecuts", "shapefinds", "rowworks", "rowcodes", "earlyrules",
     "paragraphs", "linekeys", "linedrops", "routines", "resting", "handing", "behind", "alike",
+    "grouprows", "groupforms", "groupmoves", "groupstacks", "strips", "packing", "taking", "widthrows", "walks", "sources",
+    "movefiles", "fileforms", "lightfiles", "readers",
 )
 
 EXAMPLES = r'''
@@ -130,6 +132,68 @@ True
 
 >>> [hand_out_alike(R, R), parting_stack(V, V), is_handed_paper(V, V, ((-1, -1, (), ()), (0, 0, (), ())))]
 [True, None, True]
+
+>>> N, M = ("num", "0"), ("num", "1")
+>>> X = (("begin",), ("set", N, 5, False), ("after", (5, "a")), ("more", M, 2, True), ("tell", N), ("end",), ("tell", N))
+>>> [done_deeds((((), ()),), X), deeds_of("(!num0=5!after a!everywhere!more!num1 2)\n", (), 99) == X[:3] + (("set", M, 2, True), ("end",))]
+[((('number', 5), ('token', (5, 'a')), ('number', 0)), ((((('num', '1'), 2),), ()),)), True]
+
+>>> T, Y = ("old", 1, N, 2), (("end",), ("more", N, 2, True), ("after", (5, "a")), ("begin",), ("copy", M, N, False))
+>>> form_of(Y) == (1, (("kept", 0),), ((N, T),), ((N, T),), ((5, "a"),), ((((N, T), (M, T)), ()),))
+True
+>>> [are_alike((("begin",), ("set", N, 1, True), ("end",)), (("set", N, 1, True),)), parting_state(X, X), parting_state(X, Y) is None]
+[True, None, False]
+
+>>> Z = (("set", N, 1, False), ("begin",), ("set", M, 3, True), ("set", N, 2, False), ("end",), ("tell", M))
+>>> [places_of(Z, 2), idle_deeds(Z), idle_groups(Z), thinned_deeds(Z)]
+[[0, 1, 2, 3, 4], [3], [], (('set', ('num', '0'), 1, False), ('set', ('num', '1'), 3, True), ('tell', ('num', '1')))]
+
+>>> U = ((((N, 1),), ()), (((N, 1), (M, 2)), ((5, "a"),)))
+>>> least_stack(U) == (((N, 1), (M, 2)), (("group", ((5, "a"),)), ("back", M, 0)))
+True
+>>> stack_by(U, (("set", M, 5, False), ("set", M, 6, False)), "each") == ((((N, 1), (M, 6)), (("group", ((5, "a"),)), ("back", M, 0), ("back", M, 2), ("back", M, 5))), 3)
+True
+
+>>> P = (("sign", "a"), ("space", 10, 3, 0, 2, 0), ("box", (("sign", "b"),)), ("space", 10, 1, 0, 1, 0), ("sign", "c"))
+>>> [strip_width(P), set_places(P, 53), set_places(P, 48), set_places(P, 46)]
+[50, ('set', (0, 10, 22, 32, 43, 53)), ('set', (0, 10, 18, 28, 38, 48)), ('tight',)]
+
+>>> D = (("space", 0, 2, 0, 0, 0), ("space", 0, 1, 0, 0, 0), ("space", 0, 3, 0, 0, 0))
+>>> [may_pack(P, 0, 3), may_pack(P, 2, 3), may_cut(P, 3), may_cut(D, 2), set_places(D, 3), set_halves(D, 2, 3)]
+[False, True, True, False, ('set', (0, 1, 1, 3)), ('set', (0, 0, 1, 3))]
+
+>>> E = (("sign", "a"), ("space", 0, 30, 0, 0, 0), ("place", 0), ("sign", "b"), ("space", 0, 10, 0, 0, 0), ("place", 0), ("box", (("sign", "c"), ("sign", "c"))), ("space", 0, 10, 0, 0, 0), ("place", 0))
+>>> [fit_between(E, 1, -1, 0), fit_between(E, 1, 0, 2), lines_taken(E, 1, 35), some_lines(E, 1, 35), may_take(E, 1)]
+[(10, 40), (30, 50), None, (0, 2), False]
+
+>>> [width_rows(E, 1, 2), parting_widths(E, P[:1] + E[2:], 1, 1)]
+[[((10, 40), (30, 50)), ((20, 60), (20, 30))], (61,)]
+
+>>> W = (B, (), 4)
+>>> [is_walk(W), is_walk((B, (), 15)), walk_ended(W), gone_further(W, 99)[2], gone_back(W, 4) == (B, (), 0), walk_ended((B, (), 14))]
+[True, False, False, 14, True, True]
+
+>>> W = (B, (), 9)
+>>> [way_of(W, 5), source_of(W, 5), come_of(W, 3), way_of(W, 8)]
+[(5, 3), 35, [3, 4, 5, 6, 7], (8,)]
+>>> things_told((A, (), 4))
+[(0, 1, ('sign', 'a')), (1, 2, ('sign', 'b')), (2, 3, ('space', 0, 0, 0, 0, 0)), (3, 8, ('kern', 5))]
+
+>>> F, G = (("put", "a"), ("keep", 0, 5), ("go", 0), ("put", "b")), (("push",), ("put", "a"), ("pop",), ("move", 10), ("put", "b"))
+>>> [shown_by_file(F, (1, 2, 3)), shown_by_file(G, (1, 2, 3)), file_weight(F), file_weight(G), is_file((("pop",), ("push",)))]
+[(((1, 'a'), (11, 'b')), (11, 5, 3)), (((1, 'a'), (11, 'b')), (11, 2, 3)), 6, 8, False]
+
+>>> F, G = (("put", "a"), ("keep", 0, 5), ("go", 0), ("put", "b")), (("put", "a"), ("go", 1), ("keep", 0, 5), ("go", 0))
+>>> [form_of_file(F)[0], form_of_file(G)[1], is_set_out(F), is_set_out(G + (("put", "b"),)), parting_spot(F, F), parting_spot(F, G) is None]
+[(((0, 1, 0, 0), 'a'), ((10, 1, 0, 0), 'b')), ((10, 1, 0, 1), (5, 0, 0, 0), (0, 0, 0, 1)), True, False, None, False]
+
+>>> R = ((7, "a"), (14, "b"), (21, "c"), (20, "d"))
+>>> [puts_marks(light_file(R), R), file_weight(light_file(R)), puts_marks((("put", "a"),), ((0, "a"),))]
+[True, 12, True]
+
+>>> r = Reader()
+>>> [r.enter("a!num1=5;\n"), r.enter("(!num1=6 !kern!num1;\n"), r.levels, r.undo(), r.enter("!kern!num1)\n"), r.levels, bool(r), len(r)]
+[(('sign', 'a'),), (('kern', 6),), ('text', 'brace'), None, (('kern', 5),), (), False, 2]
 '''
 
 
@@ -142,7 +206,7 @@ class Examples(unittest.TestCase):
         told = []
         results = doctest.DocTestRunner().run(test, out=told.append)
         self.assertEqual(results.failed, 0, "".join(told))
-        self.assertEqual(results.attempted, 57)
+        self.assertEqual(results.attempted, 88)
 
 
 if __name__ == "__main__":

@@ -88,9 +88,9 @@ class Walks(unittest.TestCase):
 class Sources(unittest.TestCase):
     def test_against_what_tokens_bear(self):
         longest = 0
-        texts = random_texts(74, 120, 14) + [RULES + (text or "\n") for text in random_texts(76, 120, 14, 300, NESTED)]
-        for text, answers in zip(texts, random_answers(75, 240, 5)):
-            walk = gone_further((text, answers, 0), 120)
+        texts = random_texts(74, 80, 14) + [RULES + (text or "\n") for text in random_texts(76, 60, 14, 300, NESTED)]
+        for text, answers in zip(texts, random_answers(75, 140, 5)):
+            walk = gone_further((text, answers, 0), 70)
             brought = brought_of(text, answers, walk[2])
             events = events_of(text, answers, walk[2])
             begun = [event for event in events if event[2][0] in ("work", "do")]
