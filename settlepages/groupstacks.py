@@ -158,7 +158,7 @@ def stack_by(state, deeds, way):
     """Return the stack to which deeds lead by a way of keeping, and the most entries back that stand at any moment."""
     need_state(state)
     need_deeds(deeds)
-    if not isinstance(way, str) or way not in ("each", "first"):
+    if way not in ("each", "first"):
         raise InvalidWay("way")
     keeping = Keeping(state, way)
     most = keeping.many_back()

@@ -14,20 +14,22 @@ def need_step(walk, value):
 
 def way_told(brought, index):
     """Return the way of a step, by the list of the steps that the tokens of all steps bear."""
-    way = (index,)
+    way = [index]
     while brought[way[-1]] != CUT_FROM_TEXT:
-        way = way + (brought[way[-1]],)
-    return way
+        way.append(brought[way[-1]])
+    return tuple(way)
 
 
-def places_begun(events):
-    """Return the list of the indices of the next sign at the beginnings of all steps."""
-    return [place for _, place, event in events if event[0] in ("work", "do")]
+def sources_told(run):
+    """Return the list of the sources of all steps of a run.
 
-
-def source_told(run, index):
-    """Return the source of a step of a run."""
-    return places_begun(run.events)[way_told(run.brought, index)[-1]]
+    A step whose token comes of the text tells its own source, and all others that of a step ahead of them.
+    """
+    places = [place for _, place, event in run.events if event[0] in ("work", "do")]
+    found = []
+    for step, bears in enumerate(run.brought):
+        found.append(places[step] if bears == CUT_FROM_TEXT else found[bears])
+    return found
 
 
 def checked_run(walk, index):
@@ -44,26 +46,29 @@ def way_of(walk, index):
 
 def source_of(walk, index):
     """Return the source of a step."""
-    return source_told(checked_run(walk, index), index)
+    return sources_told(checked_run(walk, index))[index]
 
 
 def come_of(walk, index):
     """Return the ascending list of all steps in whose ways a step stands."""
     brought = checked_run(walk, index).brought
-    return [step for step in range(len(brought)) if index in way_told(brought, step)]
+    found = {index: True}
+    for step in range(index + 1, len(brought)):
+        if brought[step] in found:
+            found[step] = True
+    return list(found)
 
 
 def things_told(walk):
     """Return the list of the triples (index of the step, source, thing) of all things that came."""
     need_walk(walk)
     run = run_of_walk(*walk)
-    places = places_begun(run.events)
+    sources = sources_told(run)
     found = []
     doing = 0
     for steps, _, event in run.events:
         if event[0] == "do":
             doing = steps - 1
         elif event[0] == "come":
-            source = places[way_told(run.brought, doing)[-1]]
-            found.append((doing, source, event[1]))
+            found.append((doing, sources[doing], event[1]))
     return found

@@ -152,12 +152,14 @@ class Taking(unittest.TestCase):
         self.assertEqual(lines_taken(passage, 0, 5), (0, 1, 2))
         self.assertEqual(lines_taken(passage, 0, GREATEST), (2,))
         self.assertIs(may_take(passage, 0), True)
-        # Just the line from the first to the last place fits one width; the other way is shown by this width alone.
-        passage = (*narrow(4, 1), place(), *narrow(3), place(), *narrow(2, 3, 0, 2), place())
-        shown = taking_shown(passage, 1)
-        if shown is not None:
-            self.assertIsNone(taken_slowly(passage, 1, shown))
-            self.assertTrue(any_fit_slowly(passage, 1, shown))
+        # For one width alone some lines fit, and it stops: behind the greatest one of a line.
+        passage = (*narrow(10, 40), place(), *narrow(5), place(), *narrow(27, 13), place())
+        self.assertEqual([fit_between(passage, 1, first, last) for first, last in itertools.combinations(range(-1, 3), 2)], [
+            (10, 50), (15, 55), (42, 95), (5, 5), (32, 45), (27, 40),
+        ])
+        self.assertEqual([lines_taken(passage, 1, width) for width in (40, 41, 42)], [(1, 2), None, (2,)])
+        self.assertEqual(some_lines(passage, 1, 41), (0, 2))
+        self.assertEqual(taking_shown(passage, 1), 41)
 
 
 def rows_slowly(passage, much, many):

@@ -28,6 +28,10 @@ BAD_STACKS = (
     ((), (("group",),)), ((), (("group", (), ()),)), ((), (("group", [(5, "a")]),)), ((), (("group", ((0, "a"),)),)), ((), (("group", ((5, "a"),) * 61),)), ((), (GROUP, ("back", N))), ((), (GROUP, ("back", N, 1, 1))),
     ((), (GROUP, ("back", N, True))), ((), (GROUP, ("back", N, "1"))), ((), (GROUP, ("back", ("row", "0"), 1))), ((), (GROUP, ("back", N, 10 ** 12 + 1))), ((), (GROUP, ("back", N, -10 ** 12 - 1), GROUP)), ((), (GROUP,) * 100),
     ((), (["group", ()],)), ((), ("group", ())), ((), (("begin", ()),)), 5, "", ((), (GROUP, ())), ((), (GROUP, (N, 1))), ([], ()), ((N, 1), ()),
+    # None of these shows in the state that is told.
+    ((), (GROUP,) + (("back", N, 0),) * 300), ((), (GROUP, ("back", N, False))), ((), (GROUP, ("back", N, 5), ("back", N, True))), ((), (GROUP, ("back", N, 5), ("back", N, "1"))),
+    ((), (GROUP, ("back", ("row", "0"), 0))), ((), (GROUP, ("back", "num", 0))), ((), (GROUP, ("back", ["num", "0"], 0))), ((), (GROUP, ("give", N, 0))), ((), (GROUP, (None, N, 0))), ((), (GROUP, ("back", N, 0, 0))),
+    ((), (GROUP, ("group",))), ((), (GROUP, ())), ((), (GROUP, ["back", N, 0])),
 )
 STRIP = (("sign", "a"), ("space", 1, 2, 0, 1, 0), ("box", (("sign", "b"),)))
 BAD_STRIPS = (
