@@ -246,6 +246,10 @@ class LightFiles(unittest.TestCase):
         jumps = (10000, 20000, 300, 10000, 20000, 300)
         marks = tuple((sum(jumps[:at + 1]), "a") for at in range(6))
         self.assertEqual(file_weight(self.check(marks)), 6 + 7 + 7 + 5 + 1 + 1 + 5)
+        # Either slot is kept again while the other one still holds what comes again: no way can be lighter.
+        jumps = (1000, 2000, 1000, 2000, 3000, 1000, 3000, 4000, 3000, 4000)
+        marks = tuple((sum(jumps[:at + 1]), "a") for at in range(10))
+        self.assertEqual(file_weight(self.check(marks)), 10 + 4 * 6 + 6)
         # It pays to keep the same length twice, where another one lies between.
         jumps = (10, 20, 30, 20, 30, 10, 10)
         marks = tuple((sum(jumps[:at + 1]), "a") for at in range(7))
